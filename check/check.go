@@ -6,20 +6,21 @@ import (
 	"orbits/syntax"
 )
 
-// Text tells the first error of a model's text, and its place.
-func Text(text string) (api.Errno, int) {
+// Text tells the first error of a model's text, and its place. The tree is of use only if there is none.
+func Text(text string) (syntax.Model, api.Errno, int) {
 	if len(text) > api.MaxText {
-		return api.ErrLong, 0
+		return syntax.Model{}, api.ErrLong, 0
 	}
 	tokens, bad, ok := syntax.Scan(text)
 	if !ok {
-		return api.ErrToken, bad
+		return syntax.Model{}, api.ErrToken, bad
 	}
 	model, bad, ok := syntax.Parse(tokens)
 	if !ok {
-		return api.ErrSyntax, bad
+		return syntax.Model{}, api.ErrSyntax, bad
 	}
-	return tree(model)
+	e, at := tree(model)
+	return model, e, at
 }
 
 func tree(model syntax.Model) (api.Errno, int) {

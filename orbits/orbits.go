@@ -4,14 +4,23 @@ package orbits
 import (
 	"orbits/api"
 	"orbits/check"
+	"orbits/machine"
+	"orbits/play"
 )
 
 // Check tells what is wrong with a model (P3).
-func Check(model string) (api.Errno, int) { return check.Text(model) }
+func Check(model string) (api.Errno, int) {
+	_, e, at := check.Text(model)
+	return e, at
+}
 
 // Play plays steps (P4).
 func Play(model string, steps []string) (api.View, api.Errno, int) {
-	return api.View{}, api.OK, 0
+	tree, e, at := check.Text(model)
+	if e != api.OK {
+		return api.View{}, e, at
+	}
+	return play.Walk(machine.New(tree), steps)
 }
 
 // Search looks for a bad state (P5).

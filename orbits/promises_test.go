@@ -1,6 +1,7 @@
 package orbits_test
 
 import (
+	"slices"
 	"strings"
 	"sync"
 	"testing"
@@ -19,6 +20,24 @@ func wellFormed(t *testing.T, text string) {
 	hasPlace := e == api.ErrToken || e == api.ErrSyntax || e == api.ErrMany || e == api.ErrName
 	if at < 0 || at > len(text) || !hasPlace && at != 0 {
 		t.Errorf("P1: Check(%.100q) = %d, with place %d", text, e, at)
+	}
+	wantPlayAfterCheck(t, text, e, at)
+}
+
+// wantPlayAfterCheck holds Play against Check's answer: its errors go ahead of all others.
+func wantPlayAfterCheck(t *testing.T, text string, e api.Errno, at int) {
+	t.Helper()
+	many := make([]string, api.MaxSteps+1)
+	if e != api.OK {
+		wantStop(t, text, nil, e, at)
+		wantStop(t, text, many[:1], e, at)
+		wantStop(t, text, many, e, at)
+		return
+	}
+	wantStop(t, text, many, api.ErrArg, 0)
+	wantStop(t, text, many[:1], api.ErrStep, 0)
+	if v, playE, playAt := orbits.Play(text, nil); playE != api.OK || playAt != 0 || v.Text == "" {
+		t.Errorf("P1: Play(%q, nil) = %+v, %d, %d", text, v, playE, playAt)
 	}
 }
 
@@ -107,19 +126,110 @@ func TestP1FirstOfOneSort(t *testing.T) {
 	)
 }
 
+func TestP1PlayWhichOfTwoErrors(t *testing.T) {
+	tooMany := strings.Fields(strings.Repeat("x ", 61))
+	for _, c := range []struct {
+		model string
+		steps []string
+		e     api.Errno
+		at    int
+	}{
+		{mutex + strings.Repeat(" ", 801), tooMany, api.ErrLong, 0},
+		{mutex + "#", tooMany, api.ErrToken, len(mutex)},
+		{mutex + ";", tooMany, api.ErrSyntax, len(mutex)},
+		{"", nil, api.ErrSyntax, 0},
+		{"set s 4; var x : bool; rule r() if x { }", tooMany, api.ErrMany, 6},
+		{"var x : q; rule r() if true { }", tooMany, api.ErrName, 8},
+		{simple("1", ""), tooMany, api.ErrType, 0},
+		{simple("1", ""), []string{"r()"}, api.ErrType, 0},
+		{simple("x", "x = 1;"), nil, api.ErrType, 0},
+		{mutex, tooMany, api.ErrArg, 0},
+		{mutex, tooMany[:60], api.ErrStep, 0},
+		{mutex, append([]string{"ask(0)", "ask(1)"}, tooMany[:58]...), api.ErrStep, 2},
+		{mutex, append([]string{"ask(0)", "ask(1)"}, tooMany[:59]...), api.ErrArg, 0},
+		{mutex, []string{"ask(0)", "ask(0)", "get(9)", ""}, api.ErrStep, 1},
+	} {
+		wantStop(t, c.model, c.steps, c.e, c.at)
+	}
+}
+
+func TestP1PlayAnySteps(t *testing.T) {
+	for b := range 256 {
+		one := string([]byte{byte(b)})
+		for _, text := range []string{one, "ask" + one, "ask(" + one, "ask(" + one + ")", "ask(0)" + one, one + "ask(0)", "a" + one + "k(0)", "ask(0" + one + ")", strings.Repeat(one, 5000)} {
+			v, e, at := orbits.Play(mutex, []string{"ask(1)", text})
+			if text == "ask(0)" || text == "ask(2)" {
+				if e != api.OK || at != 0 || v.Text == "" {
+					t.Errorf("P4: a step %q = %+v, %d, %d", text, v, e, at)
+				}
+				continue
+			}
+			if e != api.ErrStep || at != 1 {
+				t.Errorf("P1: a step %.100q = %d, %d", text, e, at)
+			}
+		}
+	}
+}
+
+func TestP2StepsAreNotWrittenInto(t *testing.T) {
+	room := []string{"spare", "ask(1)", "get(1)", "ask(0)", "spare", "spare", "spare"}
+	kept := slices.Clone(room)
+	for _, model := range []string{mutex, "#", simple("1", ""), full} {
+		for from := range room {
+			for to := from; to <= len(room); to++ {
+				orbits.Play(model, room[from:to])
+			}
+		}
+		orbits.Play(model, room[1:4:7])
+	}
+	if !slices.Equal(room, kept) {
+		t.Errorf("P2: the steps are %q behind the calls, and were %q", room, kept)
+	}
+}
+
+// scribble writes into all of a list, its spare room as well.
+func scribble(list []string) {
+	for i := range list[:cap(list)] {
+		list[:cap(list)][i] = "scribble"
+	}
+}
+
+func TestP2ListsAreNew(t *testing.T) {
+	model := "set p 3; var n : [p] to 1; rule up(i : p) if true { n[i] = n[i] + 1; } never one(i : p) n[i] == 1;"
+	steps := []string{"up(1)"}
+	want := seen{text: "[0 1 0]", enabled: "up(0) up(2)", wrong: "up(1)", broken: "one(1)"}
+	first, _, _ := orbits.Play(model, steps)
+	second, _, _ := orbits.Play(model, steps)
+	for _, list := range []*[]string{&first.Enabled, &first.Wrong, &first.Broken} {
+		kept := slices.Clone(*list)
+		scribble(*list)
+		*list = kept
+		if asSeen(first) != want || asSeen(second) != want {
+			t.Errorf("P2: a list of one answer is written into, and the answers are %+v, %+v", first, second)
+		}
+	}
+	scribble(steps)
+	if third, _, _ := orbits.Play(model, []string{"up(1)"}); asSeen(second) != want || asSeen(third) != want {
+		t.Errorf("P2: the steps are written into, and the answers are %+v, %+v", second, third)
+	}
+}
+
 func TestP2SameAnswerEachTime(t *testing.T) {
 	texts := []string{mutex, full, "", "#", "set p 2;", simple("y", ""), simple("1", ""), "set s 4; var x : bool; rule r() if x { }", strings.Repeat("x", 801), rich("v == i", "w[i] = none;")}
+	steps := [][]string{nil, {"ask(0)", "get(0)"}, {"two()"}, {"r(0,0)", "r(1,1)"}, make([]string, 61)}
 	type answer struct {
-		e  api.Errno
-		at int
+		e, playE   api.Errno
+		at, playAt int
+		view       seen
 	}
-	ask := func(text string) answer {
+	ask := func(text string, steps []string) answer {
 		e, at := orbits.Check(text)
-		return answer{e, at}
+		v, playE, playAt := orbits.Play(text, steps)
+		return answer{e, playE, at, playAt, asSeen(v)}
 	}
 	var first []answer
-	for _, text := range texts {
-		first = append(first, ask(text))
+	for i, text := range texts {
+		first = append(first, ask(text, steps[i%len(steps)]))
 	}
 	var group sync.WaitGroup
 	for worker := range 8 {
@@ -127,8 +237,8 @@ func TestP2SameAnswerEachTime(t *testing.T) {
 			for turn := range 50 {
 				i := (worker*7 + turn*3) % len(texts)
 				fresh := string([]byte(texts[i]))
-				if got := ask(fresh); got != first[i] {
-					t.Errorf("P2: Check(%.100q) = %v, then %v", fresh, first[i], got)
+				if got := ask(fresh, slices.Clone(steps[i%len(steps)])); got != first[i] {
+					t.Errorf("P2: Check and Play of %.100q = %v, then %v", fresh, first[i], got)
 				}
 			}
 		})
