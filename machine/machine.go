@@ -2,6 +2,7 @@
 package machine
 
 import (
+	"slices"
 	"strconv"
 	"strings"
 
@@ -16,18 +17,23 @@ type Machine struct {
 	Steps  []Step
 	Nevers []Never
 
+	sets  []int
 	vars  []variable
 	names map[string]meaning
 	size  int
 }
 
-// variable has its values from first on in a state; texts has the text of each number that a value may be.
+// variable has its values from first on in a state; texts has the text of each number that a value may be. Over is the number of the set that an array is over, of that of the set whose members the values are.
 type variable struct {
-	isArray bool
-	first   int
-	count   int
-	texts   []string
+	first int
+	count int
+	texts []string
+	over  int
+	of    int
 }
+
+// noSet is the number of a set where there is none: what a list's index is if nothing is found.
+const noSet = -1
 
 // meaning is what a name stands for in every rule and never: a variable, by its number among them, or a member, by its number in its kind.
 type meaning struct {
@@ -38,6 +44,9 @@ type meaning struct {
 // New makes a machine of a model that has no error: what its names and types are is not asked again.
 func New(model syntax.Model) *Machine {
 	m := &Machine{names: map[string]meaning{}}
+	for _, set := range model.Sets {
+		m.sets = append(m.sets, set.Size.Value)
+	}
 	for _, kind := range model.Kinds {
 		for i, member := range kind.Members {
 			m.names[member.Text] = meaning{number: i}
@@ -61,17 +70,17 @@ func (m *Machine) addVar(model syntax.Model, v syntax.Var) {
 	if v.IsArray {
 		count = setSize(model, v.Over)
 	}
-	m.vars = append(m.vars, variable{isArray: v.IsArray, first: m.size, count: count, texts: valueTexts(model, v.Simple)})
+	m.vars = append(m.vars, variable{first: m.size, count: count, texts: valueTexts(model, v.Simple), over: setNumber(model, v.Over), of: setNumber(model, v.Simple.Name)})
 	m.size += count
 }
 
 func setSize(model syntax.Model, name syntax.Name) int {
-	for _, set := range model.Sets {
-		if set.Name.Text == name.Text {
-			return set.Size.Value
-		}
-	}
-	return 0
+	return model.Sets[setNumber(model, name)].Size.Value
+}
+
+// setNumber is noSet if the name is that of a kind, or empty.
+func setNumber(model syntax.Model, name syntax.Name) int {
+	return slices.IndexFunc(model.Sets, func(set syntax.Set) bool { return set.Name.Text == name.Text })
 }
 
 func valueTexts(model syntax.Model, simple syntax.Simple) []string {
@@ -121,7 +130,7 @@ func (m *Machine) Text(state State) string {
 }
 
 func (v variable) write(b *strings.Builder, state State) {
-	if !v.isArray {
+	if v.over == noSet {
 		b.WriteString(v.texts[state[v.first]])
 		return
 	}

@@ -9,33 +9,53 @@ import (
 	"orbits/orbits"
 )
 
-// maker makes models without error, of each type and each form, and always the same ones of the same number.
+// maker makes models without error, of each type and each form, and always the same ones of the same number. A calm one has few indexes that may be none.
 type maker struct {
 	*rand.Rand
 	sets  []string
 	kinds map[string][]string
 	vars  []declared
 	bound [][2]string
+	calm  bool
 }
 
 func (m *maker) one(of ...string) string { return of[m.IntN(len(of))] }
 
 // modelOf is one of the models that are short enough.
 func modelOf(number uint64) string {
+	return firstThat(number, (*maker).model, func(string) bool { return true })
+}
+
+// firstThat is the first model of a form that is short enough, and as it is wanted.
+func firstThat(number uint64, form func(*maker) string, isWanted func(text string) bool) string {
 	for try := uint64(0); ; try++ {
 		m := &maker{Rand: rand.New(rand.NewPCG(number, try)), kinds: map[string][]string{}}
-		text := m.model()
+		text := form(m)
 		if len(text) > api.MaxText {
 			continue
 		}
 		if e, _ := orbits.Check(text); e != api.OK {
 			panic("a model that was to have no error: " + text)
 		}
-		return text
+		if isWanted(text) {
+			return text
+		}
 	}
 }
 
 func (m *maker) model() string {
+	var b strings.Builder
+	b.WriteString(m.declarations())
+	for i := range 1 + m.IntN(api.MaxRules) {
+		b.WriteString("rule r" + string(rune('a'+i)) + m.params() + " if " + m.guard() + " " + m.block(2))
+	}
+	for i := range m.IntN(api.MaxNevers + 1) {
+		b.WriteString("never n" + string(rune('a'+i)) + m.params() + " " + m.expr("bool", 2) + "; ")
+	}
+	return b.String()
+}
+
+func (m *maker) declarations() string {
 	var b strings.Builder
 	for _, name := range []string{"p", "q"}[:m.IntN(3)] {
 		m.sets = append(m.sets, name)
@@ -48,12 +68,6 @@ func (m *maker) model() string {
 	}
 	for i := range 1 + m.IntN(api.MaxVars) {
 		b.WriteString(m.variable("v" + string(rune('a'+i))))
-	}
-	for i := range 1 + m.IntN(api.MaxRules) {
-		b.WriteString("rule r" + string(rune('a'+i)) + m.params() + " if " + m.guard() + " " + m.block(2))
-	}
-	for i := range m.IntN(api.MaxNevers + 1) {
-		b.WriteString("never n" + string(rune('a'+i)) + m.params() + " " + m.expr("bool", 2) + "; ")
 	}
 	return b.String()
 }
@@ -143,7 +157,7 @@ func (m *maker) place(v declared) (string, bool) {
 		}
 	}
 	for _, o := range m.vars {
-		if o.over == "" && o.of == v.over {
+		if o.over == "" && o.of == v.over && (!m.calm || m.IntN(12) == 0) {
 			indexes = append(indexes, o.name)
 		}
 	}

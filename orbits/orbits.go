@@ -6,6 +6,7 @@ import (
 	"orbits/check"
 	"orbits/machine"
 	"orbits/play"
+	"orbits/search"
 )
 
 // Check tells what is wrong with a model (P3).
@@ -24,4 +25,10 @@ func Play(model string, steps []string) (api.View, api.Errno, int) {
 }
 
 // Search looks for a bad state (P5).
-func Search(model string, most int) (api.Report, api.Errno) { return api.Report{}, api.OK }
+func Search(model string, most int) (api.Report, api.Errno) {
+	tree, e, _ := check.Text(model)
+	if e != api.OK {
+		return api.Report{}, e
+	}
+	return search.Rounds(machine.New(tree), most)
+}

@@ -10,7 +10,7 @@ import (
 	"orbits/orbits"
 )
 
-// wellFormed asks what holds of every answer of Check.
+// wellFormed asks what holds of every answer of Check, and of Play and Search behind it.
 func wellFormed(t *testing.T, text string) {
 	t.Helper()
 	e, at := orbits.Check(text)
@@ -22,6 +22,7 @@ func wellFormed(t *testing.T, text string) {
 		t.Errorf("P1: Check(%.100q) = %d, with place %d", text, e, at)
 	}
 	wantPlayAfterCheck(t, text, e, at)
+	wantSearchAfterCheck(t, text, e)
 }
 
 // wantPlayAfterCheck holds Play against Check's answer: its errors go ahead of all others.
@@ -38,6 +39,26 @@ func wantPlayAfterCheck(t *testing.T, text string, e api.Errno, at int) {
 	wantStop(t, text, many[:1], api.ErrStep, 0)
 	if v, playE, playAt := orbits.Play(text, nil); playE != api.OK || playAt != 0 || v.Text == "" {
 		t.Errorf("P1: Play(%q, nil) = %+v, %d, %d", text, v, playE, playAt)
+	}
+}
+
+// wantSearchAfterCheck holds Search against Check's answer likewise, and asks what holds of every report.
+func wantSearchAfterCheck(t *testing.T, text string, e api.Errno) {
+	t.Helper()
+	if e != api.OK {
+		wantNoSearch(t, text, 1, e)
+		wantNoSearch(t, text, api.MaxOrbits+1, e)
+		return
+	}
+	wantNoSearch(t, text, 0, api.ErrArg)
+	wantNoSearch(t, text, api.MaxOrbits+1, api.ErrArg)
+	for _, most := range []int{1, api.MaxOrbits} {
+		r, searchE := orbits.Search(text, most)
+		if searchE == api.ErrBig {
+			wantNoSearch(t, text, most, api.ErrBig)
+		} else if searchE != api.OK || r.End < api.Safe || r.End > api.Wrong || r.Orbits < 1 || r.Orbits > most || r.End == api.Safe && len(r.Trace) > 0 || len(r.Trace) >= r.Orbits {
+			t.Errorf("P1: Search(%q, %d) = %+v, %d", text, most, r, searchE)
+		}
 	}
 }
 
@@ -214,18 +235,37 @@ func TestP2ListsAreNew(t *testing.T) {
 	}
 }
 
+func TestP2TracesAreNew(t *testing.T) {
+	model := strings.Replace(mutex, " & own == none", "", 1)
+	first, _ := orbits.Search(model, 100)
+	second, _ := orbits.Search(model, 100)
+	want := asTold(second)
+	scribble(first.Trace)
+	third, _ := orbits.Search(model, 100)
+	if want.trace == "" || asTold(second) != want || asTold(third) != want {
+		t.Errorf("P2: a trace is written into, and others are %+v, %+v", second, third)
+	}
+	view, _, _ := orbits.Play(model, second.Trace)
+	scribble(second.Trace)
+	if again, _, _ := orbits.Play(model, third.Trace); !sameView(view, again) {
+		t.Errorf("P2: a trace is written into, and Play tells %+v, then %+v", view, again)
+	}
+}
+
 func TestP2SameAnswerEachTime(t *testing.T) {
-	texts := []string{mutex, full, "", "#", "set p 2;", simple("y", ""), simple("1", ""), "set s 4; var x : bool; rule r() if x { }", strings.Repeat("x", 801), rich("v == i", "w[i] = none;")}
+	texts := []string{mutex, full, strings.Replace(mutex, " & own == none", "", 1), strings.Replace(mutex, "own = none;", "", 1), wide, up, livelyOf(1), livelyOf(4), livelyOf(5), livelyOf(8), "", "#", "set p 2;", simple("y", ""), simple("1", ""), "set s 4; var x : bool; rule r() if x { }", strings.Repeat("x", 801), rich("v == i", "w[i] = none;")}
 	steps := [][]string{nil, {"ask(0)", "get(0)"}, {"two()"}, {"r(0,0)", "r(1,1)"}, make([]string, 61)}
 	type answer struct {
-		e, playE   api.Errno
-		at, playAt int
-		view       seen
+		e, playE, searchE api.Errno
+		at, playAt        int
+		view              seen
+		report            told
 	}
 	ask := func(text string, steps []string) answer {
 		e, at := orbits.Check(text)
 		v, playE, playAt := orbits.Play(text, steps)
-		return answer{e, playE, at, playAt, asSeen(v)}
+		r, searchE := orbits.Search(text, 300)
+		return answer{e, playE, searchE, at, playAt, asSeen(v), asTold(r)}
 	}
 	var first []answer
 	for i, text := range texts {
@@ -238,7 +278,7 @@ func TestP2SameAnswerEachTime(t *testing.T) {
 				i := (worker*7 + turn*3) % len(texts)
 				fresh := string([]byte(texts[i]))
 				if got := ask(fresh, slices.Clone(steps[i%len(steps)])); got != first[i] {
-					t.Errorf("P2: Check and Play of %.100q = %v, then %v", fresh, first[i], got)
+					t.Errorf("P2: Check, Play and Search of %.100q = %v, then %v", fresh, first[i], got)
 				}
 			}
 		})

@@ -19,7 +19,7 @@ func Walk(m *machine.Machine, steps []string) (api.View, api.Errno, int) {
 		}
 		state = next
 	}
-	return look(m, state), api.OK, 0
+	return Look(m, state), api.OK, 0
 }
 
 func behind(m *machine.Machine, state machine.State, text string) (machine.State, bool) {
@@ -32,7 +32,8 @@ func behind(m *machine.Machine, state machine.State, text string) (machine.State
 	return nil, false
 }
 
-func look(m *machine.Machine, state machine.State) api.View {
+// Look tells what the instances of a model come to in a state.
+func Look(m *machine.Machine, state machine.State) api.View {
 	view := api.View{Text: m.Text(state)}
 	for _, step := range m.Steps {
 		switch _, outcome := step.From(state); outcome {
